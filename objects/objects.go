@@ -1,0 +1,81 @@
+// Package objects keeps the objects of one context and counts their pages.
+package objects
+
+import "tenants/api"
+
+// object is a picture. One without bytes is none at all: every object that was
+// created has at least one.
+type object struct {
+	width  int
+	height int
+	bytes  []byte
+}
+
+// Set is the objects of one context, by their handles.
+type Set struct {
+	objects [api.Handles]object
+}
+
+// Has tells whether there is an object of this handle.
+func (s *Set) Has(handle int) bool {
+	if handle < 0 || handle >= api.Handles {
+		return false
+	}
+	return len(s.objects[handle].bytes) > 0
+}
+
+// Pages is how many pages the objects take together.
+func (s *Set) Pages() int {
+	total := 0
+	for _, o := range s.objects {
+		total += pagesOf(len(o.bytes))
+	}
+	return total
+}
+
+// CanCreate answers the error that Create would have.
+func (s *Set) CanCreate(handle int, width int, height int) api.Errno {
+	if handle < 0 || handle >= api.Handles {
+		return api.ErrHandle
+	}
+	if s.Has(handle) {
+		return api.ErrTaken
+	}
+	if !isSide(width) || !isSide(height) {
+		return api.ErrSize
+	}
+	taken := s.Pages()
+	if taken+pagesOf(width*height) > api.Quota {
+		return api.ErrMemory
+	}
+	return api.OK
+}
+
+// Create makes an object. Its bytes are made anew, and not taken from what
+// another object had, so that nothing of that can be seen.
+func (s *Set) Create(handle int, width int, height int) api.Errno {
+	fault := s.CanCreate(handle, width, height)
+	if fault != api.OK {
+		return fault
+	}
+	s.objects[handle] = object{width: width, height: height, bytes: make([]byte, width*height)}
+	return api.OK
+}
+
+// Drop takes an object away.
+func (s *Set) Drop(handle int) api.Errno {
+	if !s.Has(handle) {
+		return api.ErrHandle
+	}
+	s.objects[handle] = object{}
+	return api.OK
+}
+
+func isSide(length int) bool {
+	return length >= 1 && length <= api.MaxSide
+}
+
+// pagesOf counts a page that is begun as a whole one.
+func pagesOf(bytes int) int {
+	return (bytes + api.PageSize - 1) / api.PageSize
+}
