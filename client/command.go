@@ -1,34 +1,48 @@
 package client
 
-import "tenants/api"
+import (
+	"tenants/api"
+	"tenants/shader"
+)
 
-// How many bytes a command has.
+// How many bytes a command has, without those that it tells the number of.
 const (
 	createLength = 4
 	dropLength   = 2
+	writeLength  = 5
+	readLength   = 5
+	codeLength   = 3
+	clearLength  = 3
 	otherLength  = 1
 )
 
 // first is the bytes of the first command; none, if they are not all there.
 func first(waiting []byte) []byte {
-	if len(waiting) == 0 {
-		return nil
-	}
-	length := lengthOf(waiting[0])
+	length := lengthOf(waiting)
 	if length > len(waiting) {
 		return nil
 	}
 	return waiting[:length]
 }
 
-// lengthOf is how many bytes a command with this first byte has. Those that are
-// not built yet (P11 to P13) count as commands that there are not.
-func lengthOf(op byte) int {
-	switch op {
+// lengthOf is how many bytes the first command has. As long as the byte that
+// tells how many more there are is missing, it counts as 0: that is enough to
+// see that the command is not all there. Draw (P13) is not built yet, and counts
+// as a command that there is not.
+func lengthOf(waiting []byte) int {
+	switch field(waiting, 0) {
 	case api.Create:
 		return createLength
 	case api.Drop:
 		return dropLength
+	case api.Write:
+		return writeLength + field(waiting, 4)
+	case api.Read:
+		return readLength
+	case api.Code:
+		return codeLength + shader.Size*field(waiting, 2)
+	case api.Clear:
+		return clearLength
 	}
 	return otherLength
 }
@@ -41,45 +55,62 @@ func field(command []byte, k int) int {
 	return int(command[k])
 }
 
-// cost is what a command costs as things are now: all with an error cost 1.
-func (c *Context) cost(command []byte) int {
-	switch field(command, 0) {
-	case api.Create:
-		return c.costOfCreate(command)
-	}
-	return 1
+// wide is the number whose lower byte is byte number k of a command.
+func wide(command []byte, k int) int {
+	lower := field(command, k)
+	upper := field(command, k+1)
+	return lower + 256*upper
 }
 
-// do does a command, and answers its error.
-func (c *Context) do(command []byte) api.Errno {
+// fault is the error that a command has as things are now.
+func (c *Context) fault(command []byte) api.Errno {
 	switch field(command, 0) {
 	case api.Create:
-		return c.create(command)
-	case api.Drop:
-		return c.drop(command)
+		return c.faultOfCreate(command)
+	case api.Drop, api.Write, api.Read, api.Clear:
+		return c.faultOfHandle(command)
+	case api.Code:
+		return faultOfCode(command)
 	}
 	return api.ErrOp
 }
 
-func (c *Context) costOfCreate(command []byte) int {
-	handle := field(command, 1)
-	width := field(command, 2)
-	height := field(command, 3)
-	fault := c.objects.CanCreate(handle, width, height)
+// cost is what a command costs as things are now.
+func (c *Context) cost(command []byte) int {
+	fault := c.fault(command)
 	if fault != api.OK {
 		return 1
 	}
-	return 1 + width*height
+	switch field(command, 0) {
+	case api.Create:
+		width := field(command, 2)
+		height := field(command, 3)
+		return 1 + width*height
+	case api.Write, api.Read:
+		return 1 + field(command, 4)
+	case api.Code:
+		return 1 + field(command, 2)
+	case api.Clear:
+		handle := field(command, 1)
+		return 1 + c.objects.Size(handle)
+	}
+	return 1
 }
 
-func (c *Context) create(command []byte) api.Errno {
-	handle := field(command, 1)
-	width := field(command, 2)
-	height := field(command, 3)
-	return c.objects.Create(handle, width, height)
-}
-
-func (c *Context) drop(command []byte) api.Errno {
-	handle := field(command, 1)
-	return c.objects.Drop(handle)
+// do does a command that has no error.
+func (c *Context) do(command []byte) {
+	switch field(command, 0) {
+	case api.Create:
+		c.create(command)
+	case api.Drop:
+		c.drop(command)
+	case api.Write:
+		c.write(command)
+	case api.Read:
+		c.read(command)
+	case api.Code:
+		c.code(command)
+	case api.Clear:
+		c.clear(command)
+	}
 }

@@ -1,5 +1,6 @@
-// Package client is what one client has of the server: its objects, the
-// commands that wait, and the replies that wait. It knows of no other client.
+// Package client is what one client has of the server: its objects, its
+// programs, the commands that wait, and the replies that wait. It knows of no
+// other client.
 package client
 
 import (
@@ -9,10 +10,11 @@ import (
 
 // Context is all that one client has. The zero Context is one just opened.
 type Context struct {
-	objects objects.Set
-	waiting []byte // the commands' bytes, those of the one worked at too
-	due     int    // what the first command still costs; 0, if it was not begun
-	replies []byte
+	objects  objects.Set
+	programs [api.Programs]program
+	waiting  []byte // the commands' bytes, those of the one worked at too
+	due      int    // what the first command still costs; 0, if it was not begun
+	replies  []byte
 }
 
 // Pages is how many pages the context's objects take.
@@ -63,8 +65,11 @@ func (c *Context) next() []byte {
 
 // finish does the first command, which has been paid for.
 func (c *Context) finish(command []byte) {
-	fault := c.do(command)
+	fault := c.fault(command)
 	c.replies = append(c.replies, byte(fault))
+	if fault == api.OK {
+		c.do(command)
+	}
 	c.waiting = c.waiting[len(command):]
 	c.due = 0
 }

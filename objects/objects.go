@@ -24,6 +24,32 @@ func (s *Set) Has(handle int) bool {
 	return len(s.objects[handle].bytes) > 0
 }
 
+// Size is how many bytes the object of this handle has; 0, if there is none.
+func (s *Set) Size(handle int) int {
+	if !s.Has(handle) {
+		return 0
+	}
+	return len(s.objects[handle].bytes)
+}
+
+// Byte is byte number k of an object; 0, if there is no such byte.
+func (s *Set) Byte(handle int, k int) byte {
+	size := s.Size(handle)
+	if k < 0 || k >= size {
+		return 0
+	}
+	return s.objects[handle].bytes[k]
+}
+
+// Put makes a value byte number k of an object, if there is such a byte.
+func (s *Set) Put(handle int, k int, value byte) {
+	size := s.Size(handle)
+	if k < 0 || k >= size {
+		return
+	}
+	s.objects[handle].bytes[k] = value
+}
+
 // Pages is how many pages the objects take together.
 func (s *Set) Pages() int {
 	total := 0
@@ -33,7 +59,7 @@ func (s *Set) Pages() int {
 	return total
 }
 
-// CanCreate answers the error that Create would have.
+// CanCreate answers the error that stands in the way of a Create.
 func (s *Set) CanCreate(handle int, width int, height int) api.Errno {
 	if handle < 0 || handle >= api.Handles {
 		return api.ErrHandle
@@ -51,24 +77,23 @@ func (s *Set) CanCreate(handle int, width int, height int) api.Errno {
 	return api.OK
 }
 
-// Create makes an object. Its bytes are made anew, and not taken from what
-// another object had, so that nothing of that can be seen.
-func (s *Set) Create(handle int, width int, height int) api.Errno {
+// Create makes an object, if CanCreate has no error. Its bytes are made anew,
+// and not taken from what another object had, so that nothing of that can be
+// seen.
+func (s *Set) Create(handle int, width int, height int) {
 	fault := s.CanCreate(handle, width, height)
 	if fault != api.OK {
-		return fault
+		return
 	}
 	s.objects[handle] = object{width: width, height: height, bytes: make([]byte, width*height)}
-	return api.OK
 }
 
-// Drop takes an object away.
-func (s *Set) Drop(handle int) api.Errno {
+// Drop takes the object of this handle away, if there is one.
+func (s *Set) Drop(handle int) {
 	if !s.Has(handle) {
-		return api.ErrHandle
+		return
 	}
 	s.objects[handle] = object{}
-	return api.OK
 }
 
 func isSide(length int) bool {

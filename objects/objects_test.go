@@ -18,9 +18,10 @@ func smear(s *Set) {
 
 func creates(t *testing.T, s *Set, handle, width, height int) {
 	t.Helper()
-	if e := s.Create(handle, width, height); e != api.OK {
-		t.Fatalf("P10: Create(%d, %d, %d) = %d, want OK", handle, width, height, e)
+	if e := s.CanCreate(handle, width, height); e != api.OK {
+		t.Fatalf("P10: CanCreate(%d, %d, %d) = %d, want OK", handle, width, height, e)
 	}
+	s.Create(handle, width, height)
 	o := s.objects[handle]
 	if o.width != width || o.height != height || len(o.bytes) != width*height {
 		t.Errorf("P10: Create(%d, %d, %d) makes %d by %d, %d bytes", handle, width, height, o.width, o.height, len(o.bytes))
@@ -54,13 +55,52 @@ func TestObjectsHaveBytesOfTheirOwn(t *testing.T) {
 		smear(&s)
 	}
 	for handle := range api.Handles {
-		s.objects[handle].bytes[3] = byte(handle)
+		s.Put(handle, 3, byte(handle))
 	}
 	for handle := range api.Handles {
-		if b := s.objects[handle].bytes[3]; b != byte(handle) {
+		if b := s.Byte(handle, 3); b != byte(handle) {
 			t.Errorf("the byte of object %d is %d", handle, b)
 		}
 	}
+}
+
+func TestBytesThatThereAreNot(t *testing.T) {
+	var s Set
+	creates(t, &s, 0, 5, 7)
+	creates(t, &s, 2, 3, 1)
+	smear(&s)
+	if s.Size(0) != 35 || s.Size(1) != 0 || s.Size(2) != 3 {
+		t.Errorf("sizes %d, %d, %d, want 35, 0, 3", s.Size(0), s.Size(1), s.Size(2))
+	}
+	for _, c := range []struct{ handle, k int }{
+		{0, -1}, {0, 35}, {0, math.MinInt}, {0, math.MaxInt}, {2, 3}, {2, 34},
+		{1, 0}, {-1, 0}, {api.Handles, 0}, {math.MinInt, 0}, {math.MaxInt, 0},
+	} {
+		s.Put(c.handle, c.k, 7)
+		if b := s.Byte(c.handle, c.k); b != 0 {
+			t.Errorf("P11: byte %d of object %d is %d, want 0", c.k, c.handle, b)
+		}
+	}
+	isSmeared(t, &s, 0)
+	isSmeared(t, &s, 2)
+}
+
+func isSmeared(t *testing.T, s *Set, handle int) {
+	t.Helper()
+	for k, b := range s.objects[handle].bytes {
+		if b != 0xff {
+			t.Errorf("byte %d of object %d became %d", k, handle, b)
+		}
+	}
+}
+
+// refuses asks for the error, and then for the object all the same.
+func refuses(t *testing.T, s *Set, handle, width, height int, want api.Errno) {
+	t.Helper()
+	if e := s.CanCreate(handle, width, height); e != want {
+		t.Errorf("P10: CanCreate(%d, %d, %d) = %d, want %d", handle, width, height, e, want)
+	}
+	s.Create(handle, width, height)
 }
 
 func TestErrorsChangeNothing(t *testing.T) {
@@ -72,30 +112,19 @@ func TestErrorsChangeNothing(t *testing.T) {
 		if s.Has(n) {
 			t.Errorf("Has(%d)", n)
 		}
-		if e := s.Drop(n); e != api.ErrHandle {
-			t.Errorf("P10: Drop(%d) = %d, want ErrHandle", n, e)
-		}
-		if e := s.Create(n, 1, 1); e != api.ErrHandle {
-			t.Errorf("P10: Create(%d, 1, 1) = %d, want ErrHandle", n, e)
-		}
+		s.Drop(n)
+		refuses(t, &s, n, 1, 1, api.ErrHandle)
 	}
+	s.Drop(2)
 	for _, n := range []int{math.MinInt, -1, 0, api.MaxSide + 1, 1 << 32, math.MaxInt} {
-		if e, f := s.Create(2, n, 1), s.Create(2, 1, n); e != api.ErrSize || f != api.ErrSize {
-			t.Errorf("P10: Create of the side %d = %d, %d, want ErrSize", n, e, f)
-		}
+		refuses(t, &s, 2, n, 1, api.ErrSize)
+		refuses(t, &s, 2, 1, n, api.ErrSize)
 	}
-	if e := s.Create(0, 5, 7); e != api.ErrTaken {
-		t.Errorf("P10: Create of a handle that is taken = %d", e)
-	}
-	if e := s.Create(2, 24, 24); e != api.ErrMemory {
-		t.Errorf("P10: Create of more than the quota = %d", e)
-	}
+	refuses(t, &s, 0, 5, 7, api.ErrTaken)
+	refuses(t, &s, 2, 24, 24, api.ErrMemory)
 	if s.Pages() != 10 || !s.Has(0) || !s.Has(1) || s.Has(2) {
 		t.Errorf("P10: after errors %d pages, %t, %t, %t", s.Pages(), s.Has(0), s.Has(1), s.Has(2))
 	}
-	for k, b := range s.objects[0].bytes {
-		if b != 0xff {
-			t.Errorf("P10: after errors byte %d is %d", k, b)
-		}
-	}
+	isSmeared(t, &s, 0)
+	isSmeared(t, &s, 1)
 }

@@ -37,7 +37,7 @@ func Shade(code string, p api.Pixel, texture string) (int, int, api.Errno) {
 // run answers what the pixel becomes and how many instructions were done.
 func run(code string, p api.Pixel, texture string) (int, int) {
 	m := machine{register: [registers]int{p.X, p.Y, p.Old, p.Colour}}
-	whole := len(code) / size
+	whole := len(code) / Size
 	steps := 0
 	for !m.ended && m.next < whole {
 		if steps == api.MaxSteps {

@@ -4,8 +4,8 @@ package shader
 
 import "tenants/api"
 
-// size is how many bytes an instruction has.
-const size = 4
+// Size is how many bytes an instruction has.
+const Size = 4
 
 // The instructions, by their first byte.
 const (
@@ -27,17 +27,17 @@ type instruction struct {
 // Verify tells whether bytes are a program, and if not, the first place where
 // they are none (P4).
 func Verify(code string) (api.Errno, int) {
-	if len(code) > size*api.MaxCode {
+	if len(code) > Size*api.MaxCode {
 		return api.ErrLong, 0
 	}
-	whole := len(code) / size
+	whole := len(code) / Size
 	for k := 0; k < whole; k++ {
 		i := fetch(code, k)
 		if !i.valid(whole) {
 			return api.ErrCode, k
 		}
 	}
-	if len(code)%size != 0 {
+	if len(code)%Size != 0 {
 		return api.ErrCode, whole
 	}
 	return api.OK, 0
@@ -45,7 +45,7 @@ func Verify(code string) (api.Errno, int) {
 
 // fetch reads instruction k; the caller sees to it that all its bytes are there.
 func fetch(code string, k int) instruction {
-	at := size * k
+	at := Size * k
 	return instruction{
 		op: int(code[at]),
 		a:  int(code[at+1]),

@@ -2,86 +2,143 @@ package tenants
 
 import (
 	"slices"
+	"strings"
 	"testing"
 
 	"tenants/api"
 )
 
 // tenant is what one context must be like, told as the document tells it: the
-// fuel is spent one by one, and nothing is known ahead.
+// fuel is spent one by one, and nothing is known ahead. (Which programs it has
+// can't be asked for yet.)
 type tenant struct {
 	sent    []byte
 	paid    int
 	replies []byte
-	objects map[int]int // bytes, by handle
+	objects map[int][]byte // by handle
 }
 
 func (m *tenant) pages() int {
 	n := 0
-	for _, bytes := range m.objects {
-		for ; bytes > 0; bytes -= 64 {
+	for _, o := range m.objects {
+		for bytes := len(o); bytes > 0; bytes -= 64 {
 			n++
 		}
 	}
 	return n
 }
 
-// command is how long the first command is, what it costs, and its error.
-func (m *tenant) command() (length int, cost int, e api.Errno) {
+// length is how many bytes the first command has; more than are there, if that
+// can't be told yet.
+func (m *tenant) length() int {
+	const untold = 9999
 	if len(m.sent) == 0 {
-		return 1, 0, 0
+		return untold
 	}
 	switch m.sent[0] {
 	case 1:
-		if len(m.sent) < 4 {
-			return 4, 0, 0
-		}
-		handle, width, height := int(m.sent[1]), int(m.sent[2]), int(m.sent[3])
-		size := width * height
-		_, taken := m.objects[handle]
-		switch {
-		case handle > 7:
-			return 4, 1, api.ErrHandle
-		case taken:
-			return 4, 1, api.ErrTaken
-		case size == 0 || max(width, height) > 24:
-			return 4, 1, api.ErrSize
-		case m.pages()*64+(size+63)/64*64 > 12*64:
-			return 4, 1, api.ErrMemory
-		}
-		return 4, 1 + size, api.OK
+		return 4
 	case 2:
-		if len(m.sent) < 2 {
-			return 2, 0, 0
+		return 2
+	case 3:
+		if len(m.sent) < 5 {
+			return untold
 		}
-		if _, there := m.objects[int(m.sent[1])]; !there {
-			return 2, 1, api.ErrHandle
+		return 5 + int(m.sent[4])
+	case 4:
+		return 5
+	case 5:
+		if len(m.sent) < 3 {
+			return untold
 		}
-		return 2, 1, api.OK
+		return 3 + 4*int(m.sent[2])
+	case 6:
+		return 3
 	}
-	return 1, 1, api.ErrOp
+	return 1
+}
+
+// price is what a command that is all there costs, and its error.
+func (m *tenant) price(command []byte) (int, api.Errno) {
+	op := command[0]
+	if op < 1 || op > 6 {
+		return 1, api.ErrOp
+	}
+	object, there := m.objects[int(command[1])]
+	switch {
+	case op == 1 && command[1] > 7:
+		return 1, api.ErrHandle
+	case op == 1 && there:
+		return 1, api.ErrTaken
+	case op == 1:
+		width, height := int(command[2]), int(command[3])
+		size := width * height
+		if size == 0 || max(width, height) > 24 {
+			return 1, api.ErrSize
+		}
+		if m.pages()*64+(size+63)/64*64 > 12*64 {
+			return 1, api.ErrMemory
+		}
+		return 1 + size, api.OK
+	case op == 5 && command[1] > 3:
+		return 1, api.ErrProgram
+	case op == 5:
+		if e, _ := Verify(string(command[3:])); e != api.OK {
+			return 1, api.ErrCode
+		}
+		return 1 + len(command)/4, api.OK
+	case !there:
+		return 1, api.ErrHandle
+	case op == 3 || op == 4:
+		return 1 + int(command[4]), api.OK
+	case op == 6:
+		return 1 + len(object), api.OK
+	}
+	return 1, api.OK
+}
+
+// effect is what comes of a command without an error, and what it replies
+// behind its first byte.
+func (m *tenant) effect(command []byte) (more []byte) {
+	handle := int(command[1])
+	object := m.objects[handle]
+	switch command[0] {
+	case 1:
+		m.objects[handle] = make([]byte, int(command[2])*int(command[3]))
+	case 2:
+		delete(m.objects, handle)
+	case 3:
+		at := int(command[2]) + int(command[3])*256
+		copy(object[min(at, len(object)):], command[5:])
+	case 4:
+		at := int(command[2]) + int(command[3])*256
+		long := append(slices.Clone(object), make([]byte, 70000)...)
+		return long[at : at+int(command[4])]
+	case 6:
+		for k := range object {
+			object[k] = command[2]
+		}
+	}
+	return nil
 }
 
 // burn spends one unit of fuel, if there is something to spend it on.
 func (m *tenant) burn() bool {
-	length, cost, e := m.command()
+	length := m.length()
 	if length > len(m.sent) || len(m.replies) >= 1024 {
 		return false
 	}
+	command := m.sent[:length]
+	cost, e := m.price(command)
 	m.paid++
 	if m.paid < cost {
 		return true
 	}
+	m.replies = append(m.replies, byte(e))
 	if e == api.OK {
-		handle := int(m.sent[1])
-		if m.sent[0] == 1 {
-			m.objects[handle] = int(m.sent[2]) * int(m.sent[3])
-		} else {
-			delete(m.objects, handle)
-		}
+		m.replies = append(m.replies, m.effect(command)...)
 	}
 	m.sent = slices.Delete(m.sent, 0, length)
-	m.replies = append(m.replies, byte(e))
 	m.paid = 0
 	return true
 }
@@ -129,25 +186,74 @@ func (a asked) ofModel(m *tenant) asked {
 	return a
 }
 
+// anyBytes is bytes of any kind, often such as commands and instructions have.
+func anyBytes(q *sequence, n int) string {
+	b := make([]byte, n)
+	for k := range b {
+		b[k] = byte(q.below(256))
+		if q.below(2) == 0 {
+			b[k] = byte(q.below(9))
+		}
+	}
+	return string(b)
+}
+
+// anyCode is most often a program.
+func anyCode(q *sequence) string {
+	n := q.below(34)
+	if q.below(20) == 0 {
+		n = q.below(256)
+	}
+	text := []byte(anyBytes(q, 4*n))
+	for k := 0; k < len(text); k += 4 {
+		text[k] = byte(q.below(9))
+		if text[k] == 7 {
+			text[k+2] = byte(q.below(n + 1))
+		}
+		if q.below(200) == 0 {
+			text[k] = 9
+		}
+	}
+	return string(text)
+}
+
 // anyCommand is most often one that has no error.
 func anyCommand(q *sequence) string {
-	handle := q.below(9)
+	handle := q.below(5)
 	if q.below(12) == 0 {
 		handle = q.below(256)
 	}
-	switch q.below(10) {
-	case 0, 1, 2, 3:
+	at := q.below(40)
+	if q.below(4) == 0 {
+		at = places[q.below(len(places))]
+	}
+	n := []int{q.below(10), q.below(10), q.below(256), 255}[q.below(4)]
+	switch q.below(18) {
+	case 0, 1:
 		return create(handle, q.below(26), q.below(26))
-	case 4, 5:
+	case 2, 3, 4:
 		return create(handle, 1+q.below(9), 1+q.below(9))
-	case 6, 7, 8:
+	case 5, 6:
 		return drop(handle)
+	case 7, 8, 9:
+		return write(handle, at, anyBytes(q, n))
+	case 10, 11, 12, 13:
+		return read(handle, at, n)
+	case 14:
+		return wipe(handle, q.below(256))
+	case 15, 16:
+		return program(q.below(5), anyCode(q))
 	}
 	return string([]byte{byte(8 + q.below(249))})
 }
 
+// anyMess is bytes of which nobody knows what commands they are; but no Draw.
+func anyMess(q *sequence) string {
+	return strings.ReplaceAll(anyBytes(q, 20), "\x07", "\x01")
+}
+
 // anyCall cuts commands in pieces, wherever it likes.
-func anyCall(q *sequence, unsent *string) asked {
+func anyCall(q *sequence, l *life) asked {
 	switch q.below(12) {
 	case 0:
 		return asked{call: "Replies"}
@@ -155,16 +261,21 @@ func anyCall(q *sequence, unsent *string) asked {
 		fuels := []int{0, 1, q.below(10), q.below(1000), q.below(1000), api.MaxFuel, api.MaxFuel + 1, -1 - q.below(9)}
 		return asked{call: "Run", fuel: fuels[q.below(len(fuels))]}
 	}
-	for len(*unsent) < 2000 {
-		*unsent += anyCommand(q)
+	for len(l.unsent) < 2000 {
+		if l.mess {
+			l.unsent += anyMess(q)
+		} else {
+			l.unsent += anyCommand(q)
+		}
 	}
 	most := []int{4, 40, 400, 2000}[q.below(4)]
-	return asked{call: "Send", text: (*unsent)[:q.below(most+1)]}
+	return asked{call: "Send", text: l.unsent[:q.below(most+1)]}
 }
 
 // life is a context from Open to Close: what is still to be sent, what it must
 // be like, and all that it was asked.
 type life struct {
+	mess   bool
 	unsent string
 	model  *tenant
 	calls  []asked
@@ -172,11 +283,11 @@ type life struct {
 
 func (l *life) ask(t *testing.T, q *sequence, s *Server, c int) {
 	t.Helper()
-	call := anyCall(q, &l.unsent)
+	call := anyCall(q, l)
 	got := call.of(s, c)
 	want := call.ofModel(l.model)
 	if got != want {
-		t.Fatalf("P7 to P10: context %d answers %+v, want %+v", c, got, want)
+		t.Fatalf("P7 to P12: context %d answers %+v, want %+v", c, got, want)
 	}
 	if l.model == nil {
 		l.unsent = ""
@@ -201,7 +312,7 @@ func (l *life) again(t *testing.T, number int) {
 
 // TestAnyCalls has contexts come and go and work, in any order.
 func TestAnyCalls(t *testing.T) {
-	for seed := range 60 {
+	for seed := range 150 {
 		q := sequence(seed)
 		s := opened(t, 0)
 		var lives [api.Contexts]life
@@ -215,7 +326,7 @@ func TestAnyCalls(t *testing.T) {
 					t.Fatalf("P6: Open() = %d, %d, want %d", got, e, lowest)
 				}
 				if lowest >= 0 {
-					lives[lowest] = life{model: &tenant{objects: map[int]int{}}}
+					lives[lowest] = life{mess: q.below(4) == 0, model: &tenant{objects: map[int][]byte{}}}
 				}
 			case 2:
 				e := s.Close(c)

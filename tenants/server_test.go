@@ -2,10 +2,12 @@ package tenants
 
 import (
 	"math"
+	"reflect"
 	"strings"
 	"testing"
 
 	"tenants/api"
+	"tenants/client"
 )
 
 // opened is a server with so many open contexts, from 0 on.
@@ -76,7 +78,7 @@ func does(t *testing.T, s *Server, c int, commands string, cost int, reply strin
 	sends(t, s, c, commands)
 	spends(t, s, c, api.MaxFuel, cost)
 	if r, e := s.Replies(c); r != reply || e != api.OK {
-		t.Errorf("P10: context %d, commands % .20x: replies % x, %d, want % x", c, commands, r, e, reply)
+		t.Errorf("P9 to P12: context %d, commands % .20x: replies % x, %d, want % x", c, commands, r, e, reply)
 	}
 }
 
@@ -178,6 +180,7 @@ func TestCloseTakesAllAway(t *testing.T) {
 	does(t, s, 1, create(0, 24, 24)+create(1, 8, 24), 577+193, "\x00\x00")
 	does(t, s, 2, create(5, 2, 2), 5, "\x00")
 	isFree(t, s, api.Pages-13)
+	does(t, s, 1, wipe(0, 7)+program(0, ends(3))+program(3, ""), 577+4+1, zeros(3))
 	// A reply waits, a command is paid for in part, and one is not all there.
 	sends(t, s, 1, drop(1)+create(1, 8, 8)+"\x01\x02")
 	spends(t, s, 1, 41, 41)
@@ -187,6 +190,10 @@ func TestCloseTakesAllAway(t *testing.T) {
 	refuses(t, s, 1, api.ErrContext)
 
 	opens(t, s, 1)
+	// What can't be asked for is looked at from within.
+	if !reflect.DeepEqual(s.contexts[1], &client.Context{}) {
+		t.Errorf("P6: a context that was just opened has %+v", s.contexts[1])
+	}
 	isFree(t, s, api.Pages-1)
 	replies(t, s, 1, "")
 	spends(t, s, 1, api.MaxFuel, 0)
@@ -195,6 +202,7 @@ func TestCloseTakesAllAway(t *testing.T) {
 	replies(t, s, 1, strings.Repeat("\x01", api.MaxPending))
 	does(t, s, 1, drop(0)+drop(1), 2, "\x02\x02")
 	does(t, s, 1, create(0, 24, 24)+create(1, 8, 24), 577+193, "\x00\x00")
+	holds(t, s, 1, 0, zeros(576))
 	// The context beside it was left alone.
 	does(t, s, 2, create(5, 2, 2)+drop(5), 2, "\x03\x00")
 }
