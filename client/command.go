@@ -13,6 +13,7 @@ const (
 	readLength   = 5
 	codeLength   = 3
 	clearLength  = 3
+	drawLength   = 17
 	otherLength  = 1
 )
 
@@ -27,8 +28,7 @@ func first(waiting []byte) []byte {
 
 // lengthOf is how many bytes the first command has. As long as the byte that
 // tells how many more there are is missing, it counts as 0: that is enough to
-// see that the command is not all there. Draw (P13) is not built yet, and counts
-// as a command that there is not.
+// see that the command is not all there.
 func lengthOf(waiting []byte) int {
 	switch field(waiting, 0) {
 	case api.Create:
@@ -43,6 +43,8 @@ func lengthOf(waiting []byte) int {
 		return codeLength + shader.Size*field(waiting, 2)
 	case api.Clear:
 		return clearLength
+	case api.Draw:
+		return drawLength
 	}
 	return otherLength
 }
@@ -62,6 +64,15 @@ func wide(command []byte, k int) int {
 	return lower + 256*upper
 }
 
+// signed is the same for a number that may be below 0.
+func signed(command []byte, k int) int {
+	number := wide(command, k)
+	if number >= 32768 {
+		return number - 65536
+	}
+	return number
+}
+
 // fault is the error that a command has as things are now.
 func (c *Context) fault(command []byte) api.Errno {
 	switch field(command, 0) {
@@ -71,6 +82,8 @@ func (c *Context) fault(command []byte) api.Errno {
 		return c.faultOfHandle(command)
 	case api.Code:
 		return faultOfCode(command)
+	case api.Draw:
+		return c.faultOfDraw(command)
 	}
 	return api.ErrOp
 }
@@ -93,6 +106,9 @@ func (c *Context) cost(command []byte) int {
 	case api.Clear:
 		handle := field(command, 1)
 		return 1 + c.objects.Size(handle)
+	case api.Draw:
+		_, cost := c.drawn(command)
+		return cost
 	}
 	return 1
 }
@@ -112,5 +128,7 @@ func (c *Context) do(command []byte) {
 		c.code(command)
 	case api.Clear:
 		c.clear(command)
+	case api.Draw:
+		c.draw(command)
 	}
 }

@@ -45,6 +45,7 @@ func look(c *Context) string {
 const (
 	seven = "\x00\x00\x07\x00"
 	end   = "\x08\x00\x00\x00"
+	all   = "\x9c\xff\x9c\xff\xdc\x05\x9c\xff\x9c\xff\xdc\x05" // corners: covers all pixels
 )
 
 func TestProgramsAreKept(t *testing.T) {
@@ -112,9 +113,12 @@ func TestNothingAheadOfPayment(t *testing.T) {
 		"\x06\x00\x07",
 		"\x05\x00\x03" + end + end + seven,
 		"\x05\x02\x02" + seven + end,
+		"\x07\x00\x00\x00\x05" + all,
+		"\x07\x00\x01\x00\x05" + all,
 	} {
 		var c Context
-		works(t, &c, "\x01\x00\x03\x02\x05\x00\x01"+end, 99, 9, "\x00\x00")
+		works(t, &c, "\x01\x00\x03\x02\x05\x00\x01"+end+"\x05\x01\x01\x01\x00\x02\x03", 99, 11, "\x00\x00\x00")
+		works(t, &c, "\x06\x00\x04", 99, 7, "\x00")
 		objects, programs := look(&c), c.programs
 		c.Send(command)
 		cost := c.cost([]byte(command))
@@ -141,8 +145,10 @@ func TestErrorsChangeNothing(t *testing.T) {
 	objects, programs := look(&c), c.programs
 	works(t, &c, "\x01\x00\x01\x01"+"\x01\x01\x19\x01"+"\x02\x01"+"\x03\x01\x00\x00\x02ab"+"\x04\x08\x00\x00\x09"+"\x06\xff\x01"+"\x05\x04\x00"+"\x05\x00\x01\xff\x00\x00\x00"+"\x00\xff",
 		99, 10, "\x03\x04\x02\x02\x02\x02\x06\x07\x01\x01")
+	works(t, &c, "\x07\x01\x00\x00\x09"+all+"\x07\x00\x01\x00\x09"+all+"\x07\x00\x00\x01\x09"+all+"\x07\x00\x00\x00\x09"+all[:11]+"\x08",
+		99, 4, "\x02\x06\x02\x08")
 	if look(&c) != objects || c.programs != programs {
-		t.Error("P10 to P12: commands with errors have effects")
+		t.Error("P10 to P13: commands with errors have effects")
 	}
 }
 
@@ -150,16 +156,19 @@ func TestErrorsChangeNothing(t *testing.T) {
 func TestShortCommands(t *testing.T) {
 	for op := range 256 {
 		for _, b := range []string{"\xff", "\x08", "\x04", "\x00"} {
-			waiting := string([]byte{byte(op)}) + strings.Repeat(b, 9)
+			waiting := string([]byte{byte(op)}) + strings.Repeat(b, 19)
 			for cut := range len(waiting) + 1 {
 				bytes := []byte(waiting[:cut])
 				if command := first(bytes); len(command) > cut {
 					t.Errorf("of % x the first command is % x", bytes, command)
 				}
-				var c Context
-				c.fault(bytes)
-				c.cost(bytes)
-				c.do(bytes)
+				var bare, c Context
+				works(t, &c, "\x01\x00\x03\x02\x05\x00\x01"+end, 99, 9, "\x00\x00")
+				for _, context := range []*Context{&bare, &c} {
+					context.fault(bytes)
+					context.cost(bytes)
+					context.do(bytes)
+				}
 			}
 		}
 	}

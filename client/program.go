@@ -44,3 +44,11 @@ func (c *Context) code(command []byte) {
 	code := codeOf(command)
 	c.programs[number] = program{given: true, code: code}
 }
+
+// programOf is the program of this number; one not given, if there is none.
+func (c *Context) programOf(number int) program {
+	if number < 0 || number >= api.Programs {
+		return program{}
+	}
+	return c.programs[number]
+}

@@ -6,9 +6,8 @@ import "tenants/api"
 // object is a picture. One without bytes is none at all: every object that was
 // created has at least one.
 type object struct {
-	width  int
-	height int
-	bytes  []byte
+	width int
+	bytes []byte
 }
 
 // Set is the objects of one context, by their handles.
@@ -30,6 +29,22 @@ func (s *Set) Size(handle int) int {
 		return 0
 	}
 	return len(s.objects[handle].bytes)
+}
+
+// Width is how wide the object of this handle is; 0, if there is none.
+func (s *Set) Width(handle int) int {
+	if !s.Has(handle) {
+		return 0
+	}
+	return s.objects[handle].width
+}
+
+// Bytes is the bytes that an object has now; none, if there is no such object.
+func (s *Set) Bytes(handle int) string {
+	if !s.Has(handle) {
+		return ""
+	}
+	return string(s.objects[handle].bytes)
 }
 
 // Byte is byte number k of an object; 0, if there is no such byte.
@@ -85,7 +100,7 @@ func (s *Set) Create(handle int, width int, height int) {
 	if fault != api.OK {
 		return
 	}
-	s.objects[handle] = object{width: width, height: height, bytes: make([]byte, width*height)}
+	s.objects[handle] = object{width: width, bytes: make([]byte, width*height)}
 }
 
 // Drop takes the object of this handle away, if there is one.

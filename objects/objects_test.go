@@ -23,8 +23,8 @@ func creates(t *testing.T, s *Set, handle, width, height int) {
 	}
 	s.Create(handle, width, height)
 	o := s.objects[handle]
-	if o.width != width || o.height != height || len(o.bytes) != width*height {
-		t.Errorf("P10: Create(%d, %d, %d) makes %d by %d, %d bytes", handle, width, height, o.width, o.height, len(o.bytes))
+	if o.width != width || len(o.bytes) != width*height {
+		t.Errorf("P10: Create(%d, %d, %d) is %d wide, %d bytes", handle, width, height, o.width, len(o.bytes))
 	}
 	for k, b := range o.bytes {
 		if b != 0 {
@@ -72,6 +72,11 @@ func TestBytesThatThereAreNot(t *testing.T) {
 	if s.Size(0) != 35 || s.Size(1) != 0 || s.Size(2) != 3 {
 		t.Errorf("sizes %d, %d, %d, want 35, 0, 3", s.Size(0), s.Size(1), s.Size(2))
 	}
+	for _, handle := range []int{1, -1, api.Handles, math.MinInt, math.MaxInt} {
+		if s.Size(handle) != 0 || s.Width(handle) != 0 || s.Bytes(handle) != "" {
+			t.Errorf("object %d has %d bytes, is %d wide, % x", handle, s.Size(handle), s.Width(handle), s.Bytes(handle))
+		}
+	}
 	for _, c := range []struct{ handle, k int }{
 		{0, -1}, {0, 35}, {0, math.MinInt}, {0, math.MaxInt}, {2, 3}, {2, 34},
 		{1, 0}, {-1, 0}, {api.Handles, 0}, {math.MinInt, 0}, {math.MaxInt, 0},
@@ -83,6 +88,21 @@ func TestBytesThatThereAreNot(t *testing.T) {
 	}
 	isSmeared(t, &s, 0)
 	isSmeared(t, &s, 2)
+}
+
+// TestBytesStay: what was asked for does not change with what is put later.
+func TestBytesStay(t *testing.T) {
+	var s Set
+	creates(t, &s, 5, 3, 2)
+	s.Put(5, 4, 'a')
+	before := s.Bytes(5)
+	s.Put(5, 4, 'b')
+	if width := s.Width(5); width != 3 {
+		t.Errorf("an object of 3 by 2 is %d wide", width)
+	}
+	if after := s.Bytes(5); before != "\x00\x00\x00\x00a\x00" || after != "\x00\x00\x00\x00b\x00" {
+		t.Errorf("the bytes are % x, and then % x", before, after)
+	}
 }
 
 func isSmeared(t *testing.T, s *Set, handle int) {

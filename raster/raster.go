@@ -10,24 +10,25 @@ type edge struct {
 
 // Cover tells whether a triangle covers a pixel (P3).
 func Cover(t api.Triangle, x int, y int) (bool, api.Errno) {
-	corners := [3]api.Point{t.A, t.B, t.C}
-	for _, corner := range corners {
-		if !inReach(corner) {
-			return false, api.ErrArg
-		}
+	if !InReach(t) {
+		return false, api.ErrArg
 	}
 	if x < 0 || x >= api.MaxSide || y < 0 || y >= api.MaxSide {
 		return false, api.ErrArg
 	}
 	p := centre(x, y)
-	return holds(corners, p), api.OK
+	return holds(t, p), api.OK
 }
 
-func inReach(p api.Point) bool {
-	if p.X < -api.MaxCorner-1 || p.X > api.MaxCorner {
-		return false
+// InReach tells whether no corner of a triangle is too far away.
+func InReach(t api.Triangle) bool {
+	coordinates := [6]int{t.A.X, t.A.Y, t.B.X, t.B.Y, t.C.X, t.C.Y}
+	for _, coordinate := range coordinates {
+		if coordinate < -api.MaxCorner-1 || coordinate > api.MaxCorner {
+			return false
+		}
 	}
-	return p.Y >= -api.MaxCorner-1 && p.Y <= api.MaxCorner
+	return true
 }
 
 func centre(x int, y int) api.Point {
@@ -36,10 +37,11 @@ func centre(x int, y int) api.Point {
 
 // holds tells whether a triangle holds a point. A point on the line of an edge
 // but not on the edge itself is outside of another edge, so that lines do here.
-func holds(corners [3]api.Point, p api.Point) bool {
-	if side(corners[0], corners[1], corners[2]) == 0 {
+func holds(t api.Triangle, p api.Point) bool {
+	if side(t.A, t.B, t.C) == 0 {
 		return false
 	}
+	corners := [3]api.Point{t.A, t.B, t.C}
 	for k := 0; k < 3; k++ {
 		e := edge{from: corners[k], to: corners[(k+1)%3], third: corners[(k+2)%3]}
 		if !e.admits(p) {

@@ -30,12 +30,13 @@ func Shade(code string, p api.Pixel, texture string) (int, int, api.Errno) {
 			return 0, 0, api.ErrArg
 		}
 	}
-	value, steps := run(code, p, texture)
+	value, steps := Run(code, p, []byte(texture))
 	return value, steps, api.OK
 }
 
-// run answers what the pixel becomes and how many instructions were done.
-func run(code string, p api.Pixel, texture string) (int, int) {
+// Run does the same for what is known to have none of Shade's errors: it checks
+// nothing, so that one need not check a program anew for each pixel.
+func Run(code string, p api.Pixel, texture []byte) (int, int) {
 	m := machine{register: [registers]int{p.X, p.Y, p.Old, p.Colour}}
 	whole := len(code) / Size
 	steps := 0
@@ -51,7 +52,7 @@ func run(code string, p api.Pixel, texture string) (int, int) {
 }
 
 // do does one instruction.
-func (m *machine) do(i instruction, texture string) {
+func (m *machine) do(i instruction, texture []byte) {
 	a := i.a % registers
 	b := m.register[i.b%registers]
 	c := m.register[i.c%registers]
@@ -100,8 +101,8 @@ func below(b int, c int) int {
 	return 0
 }
 
-func byteOf(texture string, number int) int {
-	if number >= len(texture) {
+func byteOf(texture []byte, number int) int {
+	if number < 0 || number >= len(texture) {
 		return 0
 	}
 	return int(texture[number])

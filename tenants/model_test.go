@@ -1,27 +1,38 @@
 package tenants
 
 import (
+	"encoding/binary"
 	"slices"
-	"strings"
 	"testing"
 
 	"tenants/api"
 )
 
 // tenant is what one context must be like, told as the document tells it: the
-// fuel is spent one by one, and nothing is known ahead. (Which programs it has
-// can't be asked for yet.)
+// fuel is spent one by one.
 type tenant struct {
-	sent    []byte
-	paid    int
-	replies []byte
-	objects map[int][]byte // by handle
+	sent     []byte
+	paid     int
+	replies  []byte
+	objects  map[int]canvas // by handle
+	programs map[int]string // by number
+	cost     int            // of the command that was begun
+	e        api.Errno      // and its error
+}
+
+type canvas struct {
+	width int
+	bytes []byte
+}
+
+func newTenant() *tenant {
+	return &tenant{objects: map[int]canvas{}, programs: map[int]string{}}
 }
 
 func (m *tenant) pages() int {
 	n := 0
 	for _, o := range m.objects {
-		for bytes := len(o); bytes > 0; bytes -= 64 {
+		for bytes := len(o.bytes); bytes > 0; bytes -= 64 {
 			n++
 		}
 	}
@@ -54,6 +65,8 @@ func (m *tenant) length() int {
 		return 3 + 4*int(m.sent[2])
 	case 6:
 		return 3
+	case 7:
+		return 17
 	}
 	return 1
 }
@@ -61,7 +74,7 @@ func (m *tenant) length() int {
 // price is what a command that is all there costs, and its error.
 func (m *tenant) price(command []byte) (int, api.Errno) {
 	op := command[0]
-	if op < 1 || op > 6 {
+	if op < 1 || op > 7 {
 		return 1, api.ErrOp
 	}
 	object, there := m.objects[int(command[1])]
@@ -92,19 +105,55 @@ func (m *tenant) price(command []byte) (int, api.Errno) {
 	case op == 3 || op == 4:
 		return 1 + int(command[4]), api.OK
 	case op == 6:
-		return 1 + len(object), api.OK
+		return 1 + len(object.bytes), api.OK
+	case op == 7:
+		return m.priceOfDraw(command)
 	}
 	return 1, api.OK
+}
+
+// priceOfDraw draws on a copy; the object is there.
+func (m *tenant) priceOfDraw(command []byte) (int, api.Errno) {
+	target := m.objects[int(command[1])]
+	text, known := m.programs[int(command[2])]
+	texture, there := m.objects[int(command[3])]
+	switch shape, near := shapeOf(command); {
+	case !known:
+		return 1, api.ErrProgram
+	case !there:
+		return 1, api.ErrHandle
+	case !near:
+		return 1, api.ErrCorner
+	default:
+		bytes := slices.Clone(target.bytes)
+		read := texture.bytes
+		if command[1] == command[3] {
+			read = bytes
+		}
+		return paint(bytes, target.width, text, read, int(command[4]), shape), api.OK
+	}
+}
+
+// shapeOf is the triangle of a Draw, and whether its corners are in reach.
+func shapeOf(command []byte) (api.Triangle, bool) {
+	var n [6]int
+	near := true
+	for k := range n {
+		n[k] = int(int16(binary.LittleEndian.Uint16(command[5+2*k:])))
+		near = near && -2048 <= n[k] && n[k] <= 2047
+	}
+	return triangle(at(n[0], n[1]), at(n[2], n[3]), at(n[4], n[5])), near
 }
 
 // effect is what comes of a command without an error, and what it replies
 // behind its first byte.
 func (m *tenant) effect(command []byte) (more []byte) {
 	handle := int(command[1])
-	object := m.objects[handle]
+	object := m.objects[handle].bytes
 	switch command[0] {
 	case 1:
-		m.objects[handle] = make([]byte, int(command[2])*int(command[3]))
+		width, height := int(command[2]), int(command[3])
+		m.objects[handle] = canvas{width, make([]byte, width*height)}
 	case 2:
 		delete(m.objects, handle)
 	case 3:
@@ -114,10 +163,16 @@ func (m *tenant) effect(command []byte) (more []byte) {
 		at := int(command[2]) + int(command[3])*256
 		long := append(slices.Clone(object), make([]byte, 70000)...)
 		return long[at : at+int(command[4])]
+	case 5:
+		m.programs[handle] = string(command[3:])
 	case 6:
 		for k := range object {
 			object[k] = command[2]
 		}
+	case 7:
+		shape, _ := shapeOf(command)
+		texture := m.objects[int(command[3])].bytes
+		paint(object, m.objects[handle].width, m.programs[int(command[2])], texture, int(command[4]), shape)
 	}
 	return nil
 }
@@ -129,13 +184,15 @@ func (m *tenant) burn() bool {
 		return false
 	}
 	command := m.sent[:length]
-	cost, e := m.price(command)
+	if m.paid == 0 {
+		m.cost, m.e = m.price(command)
+	}
 	m.paid++
-	if m.paid < cost {
+	if m.paid < m.cost {
 		return true
 	}
-	m.replies = append(m.replies, byte(e))
-	if e == api.OK {
+	m.replies = append(m.replies, byte(m.e))
+	if m.e == api.OK {
 		m.replies = append(m.replies, m.effect(command)...)
 	}
 	m.sent = slices.Delete(m.sent, 0, length)
@@ -219,7 +276,7 @@ func anyCode(q *sequence) string {
 
 // anyCommand is most often one that has no error.
 func anyCommand(q *sequence) string {
-	handle := q.below(5)
+	handle := q.below(3)
 	if q.below(12) == 0 {
 		handle = q.below(256)
 	}
@@ -228,7 +285,7 @@ func anyCommand(q *sequence) string {
 		at = places[q.below(len(places))]
 	}
 	n := []int{q.below(10), q.below(10), q.below(256), 255}[q.below(4)]
-	switch q.below(18) {
+	switch q.below(24) {
 	case 0, 1:
 		return create(handle, q.below(26), q.below(26))
 	case 2, 3, 4:
@@ -243,13 +300,23 @@ func anyCommand(q *sequence) string {
 		return wipe(handle, q.below(256))
 	case 15, 16:
 		return program(q.below(5), anyCode(q))
+	case 17, 18, 19, 20, 21, 22:
+		return anyDraw(q, handle)
 	}
 	return string([]byte{byte(8 + q.below(249))})
 }
 
-// anyMess is bytes of which nobody knows what commands they are; but no Draw.
-func anyMess(q *sequence) string {
-	return strings.ReplaceAll(anyBytes(q, 20), "\x07", "\x01")
+// anyDraw is most often one with its texture and its corners in reach.
+func anyDraw(q *sequence, handle int) string {
+	texture := q.below(4)
+	if q.below(3) == 0 {
+		texture = handle
+	}
+	shape := anyTriangle(q)
+	if q.below(20) == 0 {
+		*[]*int{&shape.A.X, &shape.A.Y, &shape.B.X, &shape.B.Y, &shape.C.X, &shape.C.Y}[q.below(6)] = q.below(65536)
+	}
+	return draw(handle, q.below(4), texture, q.below(256), shape)
 }
 
 // anyCall cuts commands in pieces, wherever it likes.
@@ -263,7 +330,8 @@ func anyCall(q *sequence, l *life) asked {
 	}
 	for len(l.unsent) < 2000 {
 		if l.mess {
-			l.unsent += anyMess(q)
+			// Nobody knows what commands these are.
+			l.unsent += anyBytes(q, 20)
 		} else {
 			l.unsent += anyCommand(q)
 		}
@@ -287,7 +355,7 @@ func (l *life) ask(t *testing.T, q *sequence, s *Server, c int) {
 	got := call.of(s, c)
 	want := call.ofModel(l.model)
 	if got != want {
-		t.Fatalf("P7 to P12: context %d answers %+v, want %+v", c, got, want)
+		t.Fatalf("P7 to P13: context %d answers %+v, want %+v", c, got, want)
 	}
 	if l.model == nil {
 		l.unsent = ""
@@ -326,7 +394,7 @@ func TestAnyCalls(t *testing.T) {
 					t.Fatalf("P6: Open() = %d, %d, want %d", got, e, lowest)
 				}
 				if lowest >= 0 {
-					lives[lowest] = life{mess: q.below(4) == 0, model: &tenant{objects: map[int][]byte{}}}
+					lives[lowest] = life{mess: q.below(4) == 0, model: newTenant()}
 				}
 			case 2:
 				e := s.Close(c)

@@ -78,7 +78,7 @@ func does(t *testing.T, s *Server, c int, commands string, cost int, reply strin
 	sends(t, s, c, commands)
 	spends(t, s, c, api.MaxFuel, cost)
 	if r, e := s.Replies(c); r != reply || e != api.OK {
-		t.Errorf("P9 to P12: context %d, commands % .20x: replies % x, %d, want % x", c, commands, r, e, reply)
+		t.Errorf("P9 to P13: context %d, commands % .20x: replies % x, %d, want % x", c, commands, r, e, reply)
 	}
 }
 
